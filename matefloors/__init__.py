@@ -1,0 +1,1 @@
+"""Matefloors: which rectangles can be laid with rectangles of told shapes."""
