@@ -4,7 +4,7 @@ A laying is a tuple (width, height, tiles), a tile a tuple (x, y, width, height)
 """
 
 from matefloors.errors import NoKinds, NoLaying, NoNumber
-from matefloors.numbers import NOUGHT, ONE, is_above, is_above_nought, is_number, over, plus, sign_of
+from matefloors.numbers import NOUGHT, contrary, is_above, is_above_nought, is_number, over, plus, sign_of
 
 MOST_TILES = 60
 MOST_KINDS = 3
@@ -121,7 +121,7 @@ def is_by(d, laying, kinds):
     """Tell whether each tile is of one of the kinds, upright or turned."""
     shapes = shapes_in(d, laying)
     must_be_kinds(d, kinds)
-    fitting = list(kinds) + [over(d, ONE, kind) for kind in kinds]
+    fitting = list(kinds) + [contrary(d, kind) for kind in kinds]
     return all([shape in fitting for shape in shapes])
 
 

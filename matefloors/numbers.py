@@ -90,10 +90,14 @@ def over(d, x, y):
     """Tell the quotient, x over y, y not nought."""
     if y == NOUGHT:
         raise NoNumber("nothing is told over nought")
+    return times(d, x, contrary(d, y))
+
+
+def contrary(d, x):
+    """Tell 1 over x, x not nought."""
     # A number times its mate is a fraction, and 0 for nought alone, since d is no square.
-    norm = y[0] * y[0] - d * y[1] * y[1]
-    contrary = number(y[2] * y[0], -y[2] * y[1], norm)
-    return times(d, x, contrary)
+    norm = x[0] * x[0] - d * x[1] * x[1]
+    return number(x[2] * x[0], -x[2] * x[1], norm)
 
 
 def sign_of(d, x):
@@ -124,6 +128,12 @@ def is_above(d, x, y):
 def is_above_nought(d, thing):
     """Tell of any thing whether it is a number above 0."""
     return is_number(thing) and sign_of(d, thing) == 1
+
+
+def must_be_above_nought(d, thing):
+    """Refuse what is no number above 0."""
+    if not is_above_nought(d, thing):
+        raise NoNumber("this is no number above 0")
 
 
 def whole_beneath(d, x):

@@ -60,6 +60,10 @@ def pair_over(d, x, y):
     return pair_times(d, x, (y[0] / norm, -y[1] / norm))
 
 
+def pair_mate(x):
+    return (x[0], -x[1])
+
+
 def near(d, x, figures=900):
     """The number as a Decimal, right to about so many figures of its parts."""
     context = Context(prec=figures, Emax=10 ** 6, Emin=-10 ** 6)
@@ -186,3 +190,24 @@ ROOT_PINWHEEL = (num(3, 1), num(4), (
     (num(1), num(1), num(0, 1), num(1, 0, 2))))
 
 SIXTY = floor_of(10, 6, *[(x, y, 1, 1) for y in range(6) for x in range(10)])
+
+# What is no laying, what is no tuple of kinds.
+
+NO_LAYINGS = NO_NUMBERS + [
+    (1, 0, 1), num(0, 1), (num(1), num(2)), list(PINWHEEL), (PINWHEEL,), PINWHEEL[:2], PINWHEEL + (num(1),),
+    (PINWHEEL[0], PINWHEEL[1], list(PINWHEEL[2])), (PINWHEEL[0], PINWHEEL[1], PINWHEEL[2][1:]),
+    (PINWHEEL[0], PINWHEEL[1], PINWHEEL[2] + PINWHEEL[2][:1]), (PINWHEEL[0], PINWHEEL[1], ()),
+    floor_of(1, 1, (0, 0, 1, 2)), floor_of(61, 1, *[(x, 0, 1, 1) for x in range(61)]),
+    (PINWHEEL[0], PINWHEEL[1], [list(tile) for tile in PINWHEEL[2]]),
+]
+RIGHT_KINDS = [((1, 0, 1),), ((1, 0, 1), (1, 0, 1), (1, 0, 1))]
+NO_KINDS = [thing for thing in NO_NUMBERS if thing not in RIGHT_KINDS] + [
+    (1, 0, 1), num(0, 1), [num(1)], [num(1), num(2)], (num(0),), (num(-1),), (num(1, -1),), (num(-2, 1),),
+    (num(1), num(0)), (num(1), num(2), num(-1)), (num(1), num(0), num(2)), (num(1),) * 4, (num(1),) * 5,
+    (num(1), num(2), num(3), num(4)), (num(1),) * 2000, (num(1), None), (None, num(1)), (num(1), num(2), True),
+    ((2, 0, 2),), (num(1), (0, 0, 2)), ([1, 0, 1],), (num(1), [2, 0, 1]), ("1",), (num(1), "a"), ((num(1),),),
+    PINWHEEL,
+]
+
+# Of every root from 2 to 30: numbers that are not above 0.
+NOT_ABOVE = [num(0), num(-1), num(0, -1), num(1, -1), num(-1, 0, FORTY), num(5, -5, 3), num(-7, -5, 3)]

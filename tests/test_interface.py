@@ -3,7 +3,7 @@
 import inspect
 import unittest
 
-from matefloors import layings, numbers
+from matefloors import bars, layings, leaning, moving, numbers, weighing
 
 NUMBERS = {
     "is_root": ["thing"], "is_number": ["thing"], "number": ["a", "b", "c"], "mate": ["x"], "plus": ["x", "y"],
@@ -14,6 +14,13 @@ LAYINGS = {
     "is_laying": ["d", "thing"], "shapes_in": ["d", "laying"], "is_by": ["d", "laying", "kinds"],
     "tiles_at": ["d", "laying", "x", "y"],
 }
+MOVING = {
+    "turned": ["d", "laying"], "mirrored": ["d", "laying"], "stretched": ["d", "laying", "factor"],
+    "put_in": ["d", "laying", "place", "other"],
+}
+WEIGHING = {"weighed": ["d", "weights", "width", "height"], "weighed_sums": ["d", "weights", "laying"]}
+BARS = {"never_below": ["d", "weights", "kind"], "is_bar": ["d", "kinds", "shape", "thing"]}
+LEANING = {"leaning": ["d", "shape"], "lean_fraction": ["d", "shape"]}
 
 
 class InterfaceTest(unittest.TestCase):
@@ -27,6 +34,16 @@ class InterfaceTest(unittest.TestCase):
 
     def test_layings(self):
         self.check(layings, LAYINGS)
+
+    def test_moving(self):
+        self.check(moving, MOVING)
+
+    def test_weighing_and_bars(self):
+        self.check(weighing, WEIGHING)
+        self.check(bars, BARS)
+
+    def test_leaning(self):
+        self.check(leaning, LEANING)
 
 
 if __name__ == "__main__":

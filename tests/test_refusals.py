@@ -5,24 +5,9 @@ import unittest
 
 from matefloors.errors import FloorError, NoKinds, NoLaying, NoNumber
 from matefloors.layings import is_by, shapes_in, tiles_at
-from tests.samples import NO_NUMBERS, PINWHEEL, ROOTS, SIXTY, floor_of, num
+from tests.samples import NO_KINDS, NO_LAYINGS, NO_NUMBERS, PINWHEEL, RIGHT_KINDS, ROOTS, SIXTY, num
 
 KINDS = (num(1), num(2))
-NO_LAYINGS = NO_NUMBERS + [
-    (1, 0, 1), num(0, 1), KINDS, list(PINWHEEL), (PINWHEEL,), PINWHEEL[:2], PINWHEEL + (num(1),),
-    (PINWHEEL[0], PINWHEEL[1], list(PINWHEEL[2])), (PINWHEEL[0], PINWHEEL[1], PINWHEEL[2][1:]),
-    (PINWHEEL[0], PINWHEEL[1], PINWHEEL[2] + PINWHEEL[2][:1]), (PINWHEEL[0], PINWHEEL[1], ()),
-    floor_of(1, 1, (0, 0, 1, 2)), floor_of(61, 1, *[(x, 0, 1, 1) for x in range(61)]),
-    (PINWHEEL[0], PINWHEEL[1], [list(tile) for tile in PINWHEEL[2]]),
-]
-RIGHT_KINDS = [((1, 0, 1),), ((1, 0, 1), (1, 0, 1), (1, 0, 1))]
-NO_KINDS = [thing for thing in NO_NUMBERS if thing not in RIGHT_KINDS] + [
-    (1, 0, 1), num(0, 1), [num(1)], [num(1), num(2)], (num(0),), (num(-1),), (num(1, -1),), (num(-2, 1),),
-    (num(1), num(0)), (num(1), num(2), num(-1)), (num(1), num(0), num(2)), (num(1),) * 4, (num(1),) * 5,
-    (num(1), num(2), num(3), num(4)), (num(1),) * 2000, (num(1), None), (None, num(1)), (num(1), num(2), True),
-    ((2, 0, 2),), (num(1), (0, 0, 2)), ([1, 0, 1],), (num(1), [2, 0, 1]), ("1",), (num(1), "a"), ((num(1),),),
-    PINWHEEL,
-]
 
 
 class RefusalsTest(unittest.TestCase):
