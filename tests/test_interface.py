@@ -3,7 +3,7 @@
 import inspect
 import unittest
 
-from matefloors import bars, layings, leaning, moving, numbers, weighing
+from matefloors import bars, layings, leaning, moving, numbers, plans, squares, weighing
 
 NUMBERS = {
     "is_root": ["thing"], "is_number": ["thing"], "number": ["a", "b", "c"], "mate": ["x"], "plus": ["x", "y"],
@@ -20,6 +20,11 @@ MOVING = {
 }
 WEIGHING = {"weighed": ["d", "weights", "width", "height"], "weighed_sums": ["d", "weights", "laying"]}
 BARS = {"never_below": ["d", "weights", "kind"], "is_bar": ["d", "kinds", "shape", "thing"]}
+SQUARES = {"squares_of": ["d", "width", "height"], "squares_laid": ["d", "width", "height"]}
+PLANS = {
+    "is_plan": ["thing", "many"], "shape_of": ["d", "kinds", "plan"], "mate_shape": ["d", "kinds", "plan"],
+    "count_of": ["plan"],
+}
 LEANING = {"leaning": ["d", "shape"], "lean_fraction": ["d", "shape"]}
 
 
@@ -41,6 +46,12 @@ class InterfaceTest(unittest.TestCase):
     def test_weighing_and_bars(self):
         self.check(weighing, WEIGHING)
         self.check(bars, BARS)
+
+    def test_squares(self):
+        self.check(squares, SQUARES)
+
+    def test_plans(self):
+        self.check(plans, PLANS)
 
     def test_leaning(self):
         self.check(leaning, LEANING)
