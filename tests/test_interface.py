@@ -3,7 +3,8 @@
 import inspect
 import unittest
 
-from matefloors import bars, layings, leaning, moving, numbers, plans, squares, weighing
+from matefloors import (bars, layings, leaning, mixtures, moving, nets, numbers, plans, spots, squares, streams,
+                        weighing)
 
 NUMBERS = {
     "is_root": ["thing"], "is_number": ["thing"], "number": ["a", "b", "c"], "mate": ["x"], "plus": ["x", "y"],
@@ -25,6 +26,10 @@ PLANS = {
     "is_plan": ["thing", "many"], "shape_of": ["d", "kinds", "plan"], "mate_shape": ["d", "kinds", "plan"],
     "count_of": ["plan"],
 }
+SPOTS = {"tile_at": ["d", "kinds", "plan", "x", "y"], "laid_out": ["d", "kinds", "plan", "width"]}
+NETS = {"net_of": ["d", "laying"], "is_net": ["thing"], "mate_net": ["net"]}
+STREAMS = {"streams_of": ["d", "net", "through"]}
+MIXTURES = {"mixture_of": ["d", "kind", "shape"], "plan_of_mixture": ["u", "v", "place"]}
 LEANING = {"leaning": ["d", "shape"], "lean_fraction": ["d", "shape"]}
 
 
@@ -52,6 +57,16 @@ class InterfaceTest(unittest.TestCase):
 
     def test_plans(self):
         self.check(plans, PLANS)
+
+    def test_spots(self):
+        self.check(spots, SPOTS)
+
+    def test_nets_and_streams(self):
+        self.check(nets, NETS)
+        self.check(streams, STREAMS)
+
+    def test_mixtures(self):
+        self.check(mixtures, MIXTURES)
 
     def test_leaning(self):
         self.check(leaning, LEANING)
