@@ -1,10 +1,10 @@
-"""The names and arguments of the interface, as far as its modules are there."""
+"""The names and arguments of the interface."""
 
 import inspect
 import unittest
 
-from matefloors import (bars, layings, leaning, mixtures, moving, nets, numbers, plans, spots, squares, streams,
-                        weighing)
+from matefloors import (bars, desk, layings, leaning, looker, mixtures, moving, nets, numbers, plans, spots, squares,
+                        streams, texts, weighing, wishes)
 
 NUMBERS = {
     "is_root": ["thing"], "is_number": ["thing"], "number": ["a", "b", "c"], "mate": ["x"], "plus": ["x", "y"],
@@ -31,6 +31,9 @@ NETS = {"net_of": ["d", "laying"], "is_net": ["thing"], "mate_net": ["net"]}
 STREAMS = {"streams_of": ["d", "net", "through"]}
 MIXTURES = {"mixture_of": ["d", "kind", "shape"], "plan_of_mixture": ["u", "v", "place"]}
 LEANING = {"leaning": ["d", "shape"], "lean_fraction": ["d", "shape"]}
+WISHES = {"wish_told": ["d", "kinds", "shape"], "is_laid": ["d", "kinds", "shape"], "leans_most": ["d", "kinds"]}
+LOOKER = {"holds": ["d", "kinds", "claim", "paper"]}
+TEXTS = {"show_number": ["x"], "read_number": ["text"], "show_plan": ["plan"], "read_plan": ["text"]}
 
 
 class InterfaceTest(unittest.TestCase):
@@ -70,6 +73,18 @@ class InterfaceTest(unittest.TestCase):
 
     def test_leaning(self):
         self.check(leaning, LEANING)
+
+    def test_wishes_and_looker(self):
+        self.check(wishes, WISHES)
+        self.check(looker, LOOKER)
+
+    def test_texts(self):
+        self.check(texts, TEXTS)
+
+    def test_desk(self):
+        self.assertTrue(inspect.isclass(desk.Desk))
+        self.assertEqual(list(inspect.signature(desk.Desk).parameters), ["d"])
+        self.assertEqual(list(inspect.signature(desk.Desk(2).say).parameters), ["row"])
 
 
 if __name__ == "__main__":

@@ -120,7 +120,9 @@ class LanguageTest(unittest.TestCase):
         for name, tree in self.trees.items():
             for bound, line in bound_names(tree):
                 where = f"{name}:{line}: {bound}"
-                self.assertRegex(bound, r"\A[A-Za-z][A-Za-z0-9_]*\Z" if bound not in METHODS else "", where)
+                if bound in METHODS:
+                    continue
+                self.assertRegex(bound, r"\A[A-Za-z][A-Za-z0-9_]*\Z", where)
                 self.assertFalse(bound in NO_NAMES or hasattr(builtins, bound), where)
         for where, node in self.walk(ast.Name):
             if hasattr(builtins, node.id):
@@ -132,7 +134,7 @@ class LanguageTest(unittest.TestCase):
         for name, tree in self.trees.items():
             drawn = {part.name for node in tree.body if isinstance(node, ast.ImportFrom) for part in node.names}
             drawn |= {node.name for node in tree.body if isinstance(node, (ast.ClassDef, ast.FunctionDef))}
-            for node in tree.body:
+            for node in ast.walk(tree):
                 if isinstance(node, ast.FunctionDef):
                     inner = {bound for bound, line in bound_names(node) if bound != node.name}
                     self.assertEqual(inner & drawn, set(), f"{name}:{node.lineno}")

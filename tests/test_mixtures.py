@@ -70,7 +70,8 @@ class MixtureTest(unittest.TestCase):
             self.assertEqual(mixture_of(2, kind, shape), ("mixture", u, v))
 
     def test_barred_by_hand(self):
-        for kind, shape in [(ONE, num(0, 1)), (ONE, num(1, 1)), (ONE, num(2, 1)), (num(0, 1), ONE), (num(0, 1), num(1, 1)),
+        for kind, shape in [(ONE, num(0, 1)), (ONE, num(1, 1)), (ONE, num(2, 1)), (num(0, 1), ONE),
+                            (num(0, 1), num(1, 1)),
                             (num(1, 1), ONE), (num(1, 1), num(4, 3)), (num(1, 1), num(2, 1)), (num(2, 1), num(1, 1)),
                             (num(2, 1), num(3, 2)), (num(2, 1), num(0, 1)), (num(1, 1), num(5, 4))]:
             with self.subTest((kind, shape)):

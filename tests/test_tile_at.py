@@ -85,7 +85,8 @@ class TileAtTest(unittest.TestCase):
     def test_turn(self):
         self.told(2, (num(3, 0, 2),), ("turn", A), (num(0), num(0)), (num(0), num(0), num(1), num(2, 0, 3), 0, True))
         self.told(2, (num(1, 1),), ("turn", A), (num(0), num(0)), (num(0), num(0), num(1), num(-1, 1), 0, True))
-        self.told(2, (num(1, 1),), ("turn", ("turn", A)), (num(0), num(2)), (num(0), num(0), num(1), num(1, 1), 0, False))
+        self.told(2, (num(1, 1),), ("turn", ("turn", A)), (num(0), num(2)),
+                  (num(0), num(0), num(1), num(1, 1), 0, False))
 
     def test_upon_and_beside(self):
         kinds = (num(1), num(2))
