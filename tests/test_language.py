@@ -20,6 +20,10 @@ NO_NAMES = set("""register mro elements open input version_info with_traceback a
     builtins compile copyright credits delattr dir eval exec exit gc getattr globals hasattr help id importlib license
     locals methodcaller os quit setattr super vars sys format format_map print chr""".split())
 
+OWN_METHODS = set("""append clear copy count endswith extend find get index insert isalnum isalpha isdigit islower
+    isspace isupper items join keys ljust lower lstrip partition pop remove replace reverse rfind rjust rpartition rsplit
+    rstrip setdefault split splitlines startswith strip update upper values zfill bit_length add""".split())
+
 
 def bound_names(tree):
     """Every name that a file gives a value, defines, takes as a parameter or draws in, with its line."""
@@ -129,6 +133,16 @@ class LanguageTest(unittest.TestCase):
                 self.assertIn(node.id, OWN_NAMES, where)
         for where, node in self.walk(ast.Attribute):
             self.assertFalse(node.attr in NO_NAMES or node.attr.startswith("_"), where)
+
+    def test_methods_and_values(self):
+        methods, values = set(), set()
+        for where, node in self.walk(ast.ClassDef):
+            methods |= {part.name for part in node.body if isinstance(part, ast.FunctionDef)}
+            values |= {part.attr for part in ast.walk(node)
+                       if isinstance(part, ast.Attribute) and isinstance(part.ctx, ast.Store)}
+        self.assertEqual(methods & values, set())
+        for where, node in self.walk(ast.Attribute):
+            self.assertIn(node.attr, OWN_METHODS | methods | values, where)
 
     def test_locals_are_not_called_like_imports(self):
         for name, tree in self.trees.items():

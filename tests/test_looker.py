@@ -15,7 +15,7 @@ from matefloors.wishes import wish_told
 from tests.bar_samples import is_right_bar, some_shapes
 from tests.lay_samples import number_plus, number_times, rank
 from tests.plan_samples import A, B, C, chain_of, plan_of, some_plan, tiles_by_sums
-from tests.samples import (FORTY, NO_KINDS, NO_NUMBERS, NOT_ABOVE, PINWHEEL, RIGHT_KINDS, ROOT_PINWHEEL, ROOTS, SIXTY,
+from tests.samples import (FORTY, NO_KINDS, NO_NUMBERS, NOT_ABOVE, PINWHEEL, RIGHT_KINDS, ROOTS, SIXTY,
                            floor_of, num, some_laying)
 from tests.wish_samples import contrary_of, kinds_of_both_signs, kinds_of_one_sign
 
